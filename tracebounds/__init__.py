@@ -1,0 +1,1 @@
+"""Tracebounds: what one lot leaves for the next ones."""

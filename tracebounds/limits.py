@@ -1,0 +1,15 @@
+"""How many, and how great, the things that Tracebounds works with can be."""
+
+MOST_MACHINES = 6
+MOST_CLEANINGS = 6
+MOST_STUFFS = 3
+MOST_PRODUCTS = 8
+MOST_SHARE = 1000
+MOST_AMOUNT = 10 ** 12
+MOST_DEEDS = 20
+MOST_LOTS = 8
+MOST_PASSED = 4
+MOST_ROW = 24
+MOST_CHANGES = 6
+MOST_ORDERED = 6
+MOST_CLAIMED = 10 ** 13
