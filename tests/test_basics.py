@@ -1,6 +1,6 @@
 import unittest
 
-from tracebounds.basics import is_integer, is_name, read_number
+from tracebounds.basics import is_index, is_integer, is_name, read_number
 
 
 class Basics(unittest.TestCase):
@@ -9,6 +9,13 @@ class Basics(unittest.TestCase):
             self.assertIs(is_integer(value), True)
         for value in (True, False, None, "1", b"1", (1,), [1], {}, object(), int):
             self.assertIs(is_integer(value), False)
+
+    def test_indexes(self):
+        for many in (0, 1, 2, 20):
+            for value in (-1, 0, 1, 2, 19, 20, 21, -20, 10 ** 400, -10 ** 400):
+                self.assertIs(is_index(value, many), 0 <= value < many)
+            for value in (True, False, None, "0", b"0", (0,), [0], {}, object(), int):
+                self.assertIs(is_index(value, many), False)
 
     def test_names(self):
         for value in ("a", "z", "az", "abcdefgh", "stuvwxyz"):

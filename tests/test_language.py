@@ -47,6 +47,34 @@ INTERFACE = {
             "__str__": ["self"], "__repr__": ["self"], "__eq__": ["self", "other"],
         },
     },
+    "plans": {
+        "Plan": {
+            "__init__": ["self", "works", "deeds"],
+            "read": ["works", "text"],
+            "works": ["self"], "deeds": ["self"], "lots": ["self"],
+            "without": ["self", "index"],
+            "__len__": ["self"], "__bool__": ["self"], "__str__": ["self"], "__eq__": ["self", "other"],
+        },
+    },
+    "amounts": {
+        "greatest": ["plan", "lot", "stuff"], "least": ["plan", "lot", "stuff"], "weights": ["plan", "lot", "most"],
+        "verdict": ["plan", "lot", "stuff"], "idle": ["plan"],
+    },
+    "pairs": {
+        "corners": ["plan", "lot", "other", "stuff"],
+        "measured": ["plan", "lot", "other", "stuff", "low", "high"],
+        "best_test": ["plan", "lot", "stuff"],
+    },
+    "rules": {
+        "Rule": {
+            "__init__": ["self", "works", "machine", "table"],
+            "read": ["works", "text"],
+            "works": ["self"], "machine": ["self"], "table": ["self"],
+            "cleaning": ["self", "first", "second"], "factor": ["self", "first", "second"],
+            "changed": ["self", "first", "second", "cleaning"],
+            "__str__": ["self"], "__eq__": ["self", "other"],
+        },
+    },
     "errors": {
         name: {"__init__": ["self", attribute]}
         for attribute, names in (
@@ -202,6 +230,26 @@ class Words(unittest.TestCase):
                 if isinstance(node, ast.FunctionDef) and node.name.startswith("__"):
                     self.assertIn(node.name[2:-2], DOUBLE, path.name)
 
+    def test_is_and_exponents(self):
+        """L20, L27: `is` stands beside None, True or False; an exponent is a number."""
+        for path, node in walk_all():
+            if isinstance(node, ast.Compare):
+                for sign, right in zip(node.ops, node.comparators):
+                    if isinstance(sign, (ast.Is, ast.IsNot)):
+                        self.assertIn(ast.unparse(right), ("None", "True", "False"), path.name)
+            if isinstance(node, ast.BinOp) and isinstance(node.op, ast.Pow):
+                self.assertIsInstance(node.right, ast.Constant, path.name)
+
+    def test_iterators_are_not_kept(self):
+        """L23: what is iterated once is not assigned, and not given to `set`, `len` or `reversed`."""
+        once = ("zip", "enumerate", "reversed", "range", "map")
+        for path, node in walk_all():
+            inside = [node.value] if isinstance(node, ast.Assign) else []
+            if isinstance(node, ast.Call) and ast.unparse(node.func) in ("set", "len", "reversed"):
+                inside = node.args
+            for one in inside:
+                self.assertFalse(isinstance(one, ast.Call) and ast.unparse(one.func) in once, path.name)
+
     def test_sets_are_not_iterated(self):
         """L24, L23: no set stands behind the `in` of a loop or a comprehension."""
         for path, node in walk_all():
@@ -211,10 +259,14 @@ class Words(unittest.TestCase):
 
 class Interface(unittest.TestCase):
     def test_all_is_defined_where_it_is_listed(self):
-        for file, classes in INTERFACE.items():
+        for file, listed in INTERFACE.items():
             tree = ast.parse((FOLDER / (file + ".py")).read_text("utf-8"))
             defined = {node.name: node for node in tree.body if isinstance(node, (ast.FunctionDef, ast.ClassDef))}
-            for name, methods in classes.items():
+            for name, methods in listed.items():
+                if isinstance(methods, list):
+                    self.assertIsInstance(defined[name], ast.FunctionDef, name)
+                    self.assertEqual(parameters(defined[name]), methods, name)
+                    continue
                 found = {one.name: parameters(one) for one in defined[name].body if isinstance(one, ast.FunctionDef)}
                 for method, told in methods.items():
                     self.assertEqual(found[method], told, (name, method))

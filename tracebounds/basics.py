@@ -25,3 +25,8 @@ def read_number(word):
     if not all(["0" <= digit <= "9" for digit in word]):
         return None
     return int(word)
+
+
+def is_index(value, many):
+    """Tell whether this is an integer from 0 to below this many."""
+    return is_integer(value) and 0 <= value < many
