@@ -75,6 +75,16 @@ INTERFACE = {
             "__str__": ["self"], "__eq__": ["self", "other"],
         },
     },
+    "ever": {
+        "residue": ["rule", "row", "product", "stuff"], "ever": ["rule", "product", "stuff"],
+        "is_reached": ["rule", "product", "stuff"], "shown": ["rule", "product", "stuff"],
+        "lot_ever": ["rule", "product", "stuff"], "first_above": ["rule"],
+    },
+    "quotients": {"quotient": ["rule", "other"], "farthest": ["rule", "other"]},
+    "mending": {
+        "easier": ["rule"], "weakest": ["rule", "cleaning"], "mends": ["rule", "changes"],
+        "best_order": ["rule", "ordered", "stuff"],
+    },
     "errors": {
         name: {"__init__": ["self", attribute]}
         for attribute, names in (

@@ -1,11 +1,11 @@
 """Rules: which lots are let behind which ones on a machine, and how it is cleaned between them."""
 
 from tracebounds.checks import check_name, check_works, is_name_of
-from tracebounds.errors import InvalidTable, InvalidText, UnknownName
+from tracebounds.errors import InvalidTable, InvalidText, NotARule, UnknownName
 from tracebounds.limits import MOST_SHARE
 from tracebounds.ratios import ratio
 
-_NO_CLEANING = "-"
+NO_CLEANING = "-"
 
 
 class Rule:
@@ -62,13 +62,13 @@ class Rule:
         cleaning = self.cleaning(first, second)
         if cleaning is None:
             return None
-        kept = MOST_SHARE if cleaning == _NO_CLEANING else self._works.keep(cleaning)[1]
+        kept = MOST_SHARE if cleaning == NO_CLEANING else self._works.keep(cleaning)[1]
         return ratio(self._works.hold(self._machine)[1] * kept, MOST_SHARE * MOST_SHARE)
 
     def changed(self, first, second, cleaning):
         """Return the rule with this cleaning between these products, or without this pair for None."""
         self._check_pair(first, second)
-        if cleaning is not None and not _is_cleaning(self._works, cleaning):
+        if cleaning is not None and not is_cleaning(self._works, cleaning):
             raise UnknownName(cleaning)
         let = {pair: self._let[pair] for pair in self._let if cleaning is not None or pair != (first, second)}
         if cleaning is not None:
@@ -93,6 +93,12 @@ class Rule:
         return str(self._text)
 
 
+def check_rule(rule):
+    """Raise NotARule if this is no Rule."""
+    if not isinstance(rule, Rule):
+        raise NotARule(rule)
+
+
 def _check_table(works, table):
     """Raise InvalidTable if this is no table of a rule of these works."""
     if not isinstance(table, tuple):
@@ -109,9 +115,9 @@ def _is_row(works, row):
     if not isinstance(row, tuple) or len(row) != 3:
         return False
     first, second, cleaning = row
-    return is_name_of(works.products, first) and is_name_of(works.products, second) and _is_cleaning(works, cleaning)
+    return is_name_of(works.products, first) and is_name_of(works.products, second) and is_cleaning(works, cleaning)
 
 
-def _is_cleaning(works, value):
+def is_cleaning(works, value):
     """Tell whether this is a cleaning of these works, or "-" for none."""
-    return is_name_of(works.cleanings, value) or (isinstance(value, str) and value == _NO_CLEANING)
+    return is_name_of(works.cleanings, value) or (isinstance(value, str) and value == NO_CLEANING)
