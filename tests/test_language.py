@@ -85,6 +85,27 @@ INTERFACE = {
         "easier": ["rule"], "weakest": ["rule", "cleaning"], "mends": ["rule", "changes"],
         "best_order": ["rule", "ordered", "stuff"],
     },
+    "books": {
+        "Book": {
+            "__init__": ["self", "works"],
+            "works": ["self"], "names": ["self"], "claims": ["self"], "changes": ["self"],
+            "drop": ["self", "name"], "claim": ["self", "claim"], "lift": ["self", "index"], "undo": ["self"],
+            "do_all": ["self", "*deeds", "watch="], "trial": ["self"], "tried": ["self", "action"],
+            "__setitem__": ["self", "name", "part"], "__getitem__": ["self", "name"], "__contains__": ["self", "value"],
+            "__len__": ["self"], "__eq__": ["self", "other"],
+        },
+        "Trial": {
+            "__enter__": ["self"], "__exit__": ["self", "kind", "value", "trace"], "__eq__": ["self", "other"],
+        },
+    },
+    "checker": {"accepts": ["claim", "certificate"]},
+    "certificates": {
+        "certify_most": ["plan", "lot", "stuff"], "certify_reached": ["plan", "lot", "stuff"],
+        "certify_never": ["rule", "stuff"], "certify_above": ["rule", "product", "stuff", "number"],
+    },
+    "console": {
+        "Console": {"__init__": ["self", "works"], "say": ["self", "line"], "__eq__": ["self", "other"]},
+    },
     "errors": {
         name: {"__init__": ["self", attribute]}
         for attribute, names in (
@@ -109,7 +130,10 @@ def walk_all():
 
 
 def parameters(function):
-    return [one.arg for one in function.args.args]
+    """The names of the parameters, with a star for those that take the rest, and = for those by name alone."""
+    told = function.args
+    rest = [f"*{told.vararg.arg}"] if told.vararg else []
+    return [one.arg for one in told.args] + rest + [f"{one.arg}=" for one in told.kwonlyargs]
 
 
 class Files(unittest.TestCase):

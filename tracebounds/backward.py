@@ -15,28 +15,38 @@ def count_back(plan, goals, direction):
     then. All shares are such that the pairs come as far as they can in this direction, a pair of integers. The list
     goes up to the last lot of the goals: what comes behind it plays no part.
     """
+    unit, steps = steps_back(plan, goals, direction)
+    return (unit, [in_lot for in_lot, _, _ in steps if in_lot is not None])
+
+
+def steps_back(plan, goals, direction):
+    """Return a unit as count_back does, and a list of what 1 counts right before each deed, and of the shares for this.
+
+    For each deed: what 1 counts in the lot of a run (None for a cleaning), what it counts on each machine (a dict), and
+    the shares in the order of the machines, thousandths.
+    """
     lot = max(list(goals))
-    deeds = _deeds_up_to(plan.deeds, lot)
+    deeds = deeds_up_to(plan, lot)
     unit = _unit_of(deeds)
     on_machines = {row[0]: _NOTHING for row in plan.works.machines}
-    counts = []
+    steps = []
     for deed in deeds[::-1]:
         if deed[0] == "clean":
-            _, machine, cleaning = deed
-            keep = plan.works.keep(cleaning)
-            on_machines[machine] = _farthest(_NOTHING, on_machines[machine], keep, direction)
+            step = _ahead_of_cleaning(plan.works, deed, on_machines, direction)
         else:
             in_lot = tuple([unit * number for number in goals.get(lot, _NOTHING)])
-            counts.append(_count_run(plan.works, deed[2], in_lot, on_machines, direction))
+            step = _ahead_of_run(plan.works, deed, in_lot, on_machines, direction)
             lot -= 1
-    counts.reverse()
-    return (unit, counts)
+        on_machines = step[1]
+        steps.append(step)
+    steps.reverse()
+    return (unit, steps)
 
 
-def _deeds_up_to(deeds, lot):
+def deeds_up_to(plan, lot):
     """Return the deeds from the first one to the run of this lot."""
-    runs = [at for at, deed in enumerate(deeds) if deed[0] == "run"]
-    return deeds[:runs[lot] + 1]
+    runs = [at for at, deed in enumerate(plan.deeds) if deed[0] == "run"]
+    return plan.deeds[:runs[lot] + 1]
 
 
 def _unit_of(deeds):
@@ -48,21 +58,28 @@ def _unit_of(deeds):
     return unit
 
 
-def _count_run(works, machines, in_lot, on_machines, direction):
-    """Return what 1 in a lot counts ahead of these machines, in_lot being what it counts behind them.
+def _ahead_of_cleaning(works, deed, on_machines, direction):
+    """Return the step for a cleaning, on_machines being what 1 counts behind it."""
+    _, machine, cleaning = deed
+    share, count = _farthest(_NOTHING, on_machines[machine], works.keep(cleaning), direction)
+    return (None, {**on_machines, machine: count}, (share,))
 
-    What 1 on each machine counts is changed to what it counts ahead of the run.
-    """
-    for machine in machines[::-1]:
-        in_lot = _farthest(in_lot, on_machines[machine], works.hold(machine), direction)
-        on_machines[machine] = in_lot
-    return in_lot
+
+def _ahead_of_run(works, deed, in_lot, on_machines, direction):
+    """Return the step for a run, in_lot and on_machines being what 1 counts behind it."""
+    shares = []
+    ahead = {name: on_machines[name] for name in on_machines}
+    for machine in deed[2][::-1]:
+        share, in_lot = _farthest(in_lot, on_machines[machine], works.hold(machine), direction)
+        ahead[machine] = in_lot
+        shares.append(share)
+    return (in_lot, ahead, tuple(shares[::-1]))
 
 
 def _farthest(rest, kept, bounds, direction):
-    """Return what 1 counts of which a share within these bounds counts like kept, and the rest like rest."""
-    low, high = [_divided(rest, kept, share) for share in bounds]
-    return high if _reach(high, direction) > _reach(low, direction) else low
+    """Return the better one of these shares, and what 1 counts of which it counts like kept, the rest like rest."""
+    low, high = [(share, _divided(rest, kept, share)) for share in bounds]
+    return high if _reach(high[1], direction) > _reach(low[1], direction) else low
 
 
 def _divided(rest, kept, share):

@@ -1,17 +1,17 @@
 """What a rule leaves for lots, behind one row and behind all rows, however long they are."""
 
-from tracebounds.checks import check_name, is_name_of
+from tracebounds.checks import is_name_of
 from tracebounds.errors import InvalidRow
 from tracebounds.limits import MOST_ROW, MOST_SHARE
 from tracebounds.ratios import is_less, ratio
 from tracebounds.rings import amounts_ever, reached_ever, ways_ever
 from tracebounds.rows import HIGH, LOW, lead, links_of
-from tracebounds.rules import check_rule
+from tracebounds.rules import check_product_and_stuff, check_rule
 
 
 def residue(rule, row, product, stuff):
     """Return the least and the greatest residue ahead of this product behind this row."""
-    _check(rule, product, stuff)
+    check_product_and_stuff(rule, product, stuff)
     _check_row(rule, row, product)
     found = [lead((0, 1), links_of(rule, stuff, end), row + (product,)) for end in (LOW, HIGH)]
     return tuple([ratio(top, bottom) for top, bottom in found])
@@ -19,25 +19,25 @@ def residue(rule, row, product, stuff):
 
 def ever(rule, product, stuff):
     """Return the greatest residue ever ahead of this product, or None if it grows without end."""
-    _check(rule, product, stuff)
+    check_product_and_stuff(rule, product, stuff)
     return amounts_ever(rule, stuff)[product]
 
 
 def is_reached(rule, product, stuff):
     """Tell whether the greatest residue ever is the residue ahead of this product behind some row."""
-    _check(rule, product, stuff)
+    check_product_and_stuff(rule, product, stuff)
     return product in reached_ever(rule, stuff)
 
 
 def shown(rule, product, stuff):
     """Return a pair (ring, tail) of rows that leads to the greatest residue ever, or to ever more without end."""
-    _check(rule, product, stuff)
+    check_product_and_stuff(rule, product, stuff)
     return ways_ever(rule, stuff)[product]
 
 
 def lot_ever(rule, product, stuff):
     """Return the greatest amount ever of lots of this product, or None if there is none."""
-    _check(rule, product, stuff)
+    check_product_and_stuff(rule, product, stuff)
     return _let_go(rule, product, stuff, amounts_ever(rule, stuff)[product])
 
 
@@ -64,13 +64,6 @@ def _let_go(rule, product, stuff, amount):
     top, bottom = amount
     content = rule.works.content(product, stuff)[1]
     return ratio(rest * (top + content * bottom), MOST_SHARE * bottom)
-
-
-def _check(rule, product, stuff):
-    """Raise the error of the first of these that is not valid, if there is one."""
-    check_rule(rule)
-    check_name(rule.works.products, product)
-    check_name(rule.works.stuffs, stuff)
 
 
 def _check_row(rule, row, product):

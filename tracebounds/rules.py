@@ -99,6 +99,13 @@ def check_rule(rule):
         raise NotARule(rule)
 
 
+def check_product_and_stuff(rule, product, stuff):
+    """Raise the error of the first of these that is not valid, if there is one."""
+    check_rule(rule)
+    check_name(rule.works.products, product)
+    check_name(rule.works.stuffs, stuff)
+
+
 def _check_table(works, table):
     """Raise InvalidTable if this is no table of a rule of these works."""
     if not isinstance(table, tuple):
