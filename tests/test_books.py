@@ -917,7 +917,7 @@ class TheGreatest(unittest.TestCase):
         rule = greatest_rule(2)
         book = Book(rule.works)
         book["rule"] = rule
-        for at, (product, _) in enumerate(rule.works.products):
+        for product, _ in rule.works.products:
             top, bottom = lot_ever(rule, product, "sa")
             if top <= 10 ** 13 * bottom:
                 book.claim(("ever", "rule", product, "sa", -(-top // bottom)))
