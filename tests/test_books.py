@@ -752,6 +752,54 @@ class Trials(unittest.TestCase):
                     book.undo()
                 self.assertEqual(state(book), first)
 
+    def test_within_itself_left_by_an_exception(self):
+        """One exception leaves all the rows, one around another; in each the book is as it was when they began."""
+        for error in (Stop("x"), Broken(0), KeyboardInterrupt(), GeneratorExit()):
+            book = filled()
+            trial = book.trial()
+            with Unchanged(self, book):
+                with self.assertRaises(type(error)) as caught:
+                    self.deeper(book, trial, ["a", "b", "c", "d"], error)
+                self.assertIs(caught.exception, error)
+            with Unchanged(self, book):
+                with trial as passed:
+                    self.assertIs(passed, book)
+                    self.change_much(book)
+
+    def deeper(self, book, trial, names, error):
+        """Enter the trial once more for each of the names, with a change between, and raise the error within them."""
+        with trial:
+            book[names[0]] = CLEAN
+            if not names[1:]:
+                self.change_much(book)
+                raise error
+            between = state(book)
+            try:
+                self.deeper(book, trial, names[1:], error)
+            finally:
+                self.assertEqual(state(book), between)
+
+    def test_an_exception_caught_within_itself(self):
+        """Only the rows that it leaves end: those around them go on, and end where they began."""
+        book = filled()
+        trial = book.trial()
+        with Unchanged(self, book):
+            with trial:
+                book.undo()
+                between = state(book)
+                for _ in range(2):
+                    with self.assertRaises(Stop):
+                        with trial:
+                            book.lift(0)
+                            with trial:
+                                book.undo()
+                                book.undo()
+                                book["a"] = LOOSE
+                                raise Stop()
+                    self.assertEqual(state(book), between)
+                book["b"] = RULE
+                self.assertEqual(book.names, ("b", "dirty", "house", "week"))
+
     def within(self, book, trial):
         with trial, trial, trial:
             self.change_much(book)

@@ -284,6 +284,19 @@ class Words(unittest.TestCase):
             for one in inside:
                 self.assertFalse(isinstance(one, ast.Call) and ast.unparse(one.func) in once, path.name)
 
+    def test_rows_where_a_with_statement_ends(self):
+        """L6 With, no wider than is needed: `net = self.net` once, else attributes of these two are handed on."""
+        found = [node for _, node in walk_all() if isinstance(node, ast.FunctionDef) and node.name == "__exit__"]
+        self.assertTrue(found)
+        for node in found:
+            rows = [ast.unparse(row) for row in node.body]
+            kept = [row for row in rows if re.fullmatch(r"[a-z]+ = self\._?[a-z]+", row)]
+            self.assertLessEqual(len(kept), 1)
+            names = "|".join(["self"] + [row.split(" ")[0] for row in kept])
+            for row in rows:
+                if row not in kept:
+                    self.assertRegex(row, rf"\A({names})(\._?[a-z]+)+ = ({names})(\._?[a-z]+)+\Z")
+
     def test_sets_are_not_iterated(self):
         """L24, L23: no set stands behind the `in` of a loop or a comprehension."""
         for path, node in walk_all():

@@ -158,32 +158,25 @@ class Trial:
     def __init__(self, book):
         self._book = book
         self._mark = Mark()
-        # The page with which the innermost rows began, and what stood here ahead of them.
-        self._page = None
+        # Of the innermost rows that have not ended.
         self._entry = None
 
     def __enter__(self):
-        self._entry = Entry(self._page, self._entry)
-        self._page = self._book._page
+        self._entry = Entry(self._book._page, self._entry)
         return self._book
 
+    # Entries are chained, not listed: where rows end, attributes may only be handed on.
     def __exit__(self, kind, value, trace):
         book = self._book
-        book._page = self._page
-        self.shut()
-
-    # Forgets the innermost rows. They are chained, not listed: where rows end, attributes may only be handed on.
-    def shut(self):
-        entry = self._entry
-        self._page = entry.page
-        self._entry = entry.around
+        book._page = self._entry.page
+        self._entry = self._entry.around
 
     def __eq__(self, other):
         return isinstance(other, Trial) and self._mark == other._mark
 
 
 class Entry:
-    """What stood in a trial when it was entered once more."""
+    """The page with which rows of a trial began, and the entry of those of its rows that stand around them."""
 
     def __init__(self, page, around):
         self.page = page
